@@ -1,0 +1,1 @@
+"""Anyhalf: an operator language read from any pieces."""

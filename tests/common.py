@@ -1,0 +1,124 @@
+"""What the tests share: the language E, drawn languages and words, ways to join halves."""
+
+import unittest
+
+from anyhalf.halves import empty_half, word_half
+from anyhalf.joins import joined
+from anyhalf.languages import Language, made_language
+from anyhalf.rolesof import fault_of, role_of
+
+E_LEVELS = ("left", "none", "left", "left", "right")
+E_ROWS = (("not", "ahead", 1), ("<", "between", 2), ("+", "between", 3), ("-", "between", 3), ("*", "between", 4),
+          ("-", "ahead", 4), ("^", "between", 5), ("!", "behind", 5))
+E_PAIRS = (("(", ")"), ("[", "]"))
+E = made_language(E_LEVELS, E_ROWS, E_PAIRS)
+WORDS = ("+", "-", "*", "<", "not", "!", "f", "g")
+FAULTS = ("word", "want", "have", "clash", "close", "end", "open")
+
+
+class Case(unittest.TestCase):
+    def refused(self, error, what, call, *args, **more):
+        with self.assertRaises(error) as caught:
+            call(*args, **more)
+        self.assertIs(type(caught.exception), error)
+        self.assertEqual(caught.exception.what, what)
+        self.assertIs(type(caught.exception.what), type(what))
+
+
+def split(text):
+    """The words of a text in which blanks stand between them."""
+    return tuple(text.split())
+
+
+def drawn_language(draw, alike_levels=False):
+    """A small language in which some words have two rows."""
+    many = draw.randint(1, 4)
+    levels = tuple(draw.choice(("left", "right", "none")) for _ in range(many))
+    rows = []
+    for word in WORDS:
+        if draw.random() < 0.4:
+            rows.append((word, "ahead", draw.randint(1, many)))
+        if draw.random() < 0.5:
+            rows.append((word, draw.choice(("between", "behind")), draw.randint(1, many)))
+    draw.shuffle(rows)
+    pairs = (("(", ")"), ("[", "]"), ("{", "}"))[:draw.randint(1, 3)]
+    return made_language(levels, tuple(rows), pairs)
+
+
+def drawn_words(draw, language, many, slips=0.03):
+    """Words in a row, most of which can stand where they stand."""
+    stock = ["a", "b"] + [row[0] for row in language.rows] + [sign for pair in language.pairs for sign in pair]
+    words = []
+    have = False
+    for _ in range(many):
+        word = draw.choice(stock + ["abcdefghijklm"])
+        while draw.random() > slips and fault_of(language, word, have) != "":
+            word = draw.choice(stock)
+        words.append(word)
+        have = role_of(language, word, have)[0] in ("operand", "behind", "close")
+    return tuple(words)
+
+
+def reckoned(draw, language, size):
+    """The language with a drawn reckoning of this size."""
+    def number():
+        if size == 0:
+            return draw.choice([None, 0] + [draw.randint(-9, 9) for _ in range(5)])
+        return draw.randrange(size)
+
+    def numbers(many):
+        return tuple(number() for _ in range(many))
+
+    values = tuple((name, number()) for name in ("a", "b")[:draw.randint(0, 2)])
+    forms = tuple(numbers(4 if row[1] == "between" else 2) for row in language.rows)
+    kept = tuple(numbers(2) for _ in language.pairs[1:])
+    return Language(language.levels, language.rows, language.pairs, (size, values, number(), forms, kept))
+
+
+def half_in_order(draw, language, words, empties=0):
+    """The half of words, joined two neighbours at a time in a drawn order, with empty ones put in."""
+    halves = [word_half(language, word) for word in words]
+    for _ in range(empties if halves else 1):
+        halves.insert(draw.randint(0, len(halves)), empty_half(language))
+    while len(halves) > 1:
+        at = draw.randrange(len(halves) - 1)
+        halves[at:at + 2] = [joined(language, halves[at], halves[at + 1])]
+    return halves[0]
+
+
+def half_from_left(language, words):
+    half = empty_half(language)
+    for word in words:
+        half = joined(language, half, word_half(language, word))
+    return half
+
+
+def half_from_right(language, words):
+    half = empty_half(language)
+    for word in reversed(words):
+        half = joined(language, word_half(language, word), half)
+    return half
+
+
+def half_by_middles(language, words):
+    halves = [word_half(language, word) for word in words]
+    while len(halves) > 1:
+        pairs = [halves[at:at + 2] for at in range(0, len(halves), 2)]
+        halves = [joined(language, *pair) if len(pair) == 2 else pair[0] for pair in pairs]
+    return halves[0]
+
+
+def all_halves(language, words):
+    """The halves of words by every order of joining them."""
+    if len(words) == 1:
+        return [word_half(language, words[0])]
+    found = []
+    for cut in range(1, len(words)):
+        for one in all_halves(language, words[:cut]):
+            for two in all_halves(language, words[cut:]):
+                found.append(joined(language, one, two))
+    return found
+
+
+def deep_brackets(many, inner=("a",)):
+    return ("(",) * many + tuple(inner) + (")",) * many

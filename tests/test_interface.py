@@ -1,0 +1,56 @@
+"""Each name of the interface that has landed is defined in its own file, with the arguments as listed."""
+
+import ast
+import importlib
+import inspect
+import pathlib
+import unittest
+
+PACKAGE = pathlib.Path(__file__).parent.parent / "anyhalf"
+FUNCTIONS = {
+    "signs": ("words_of(text)", "spans_of(text)"),
+    "languages": ("made_language(levels, rows, pairs)",),
+    "rolesof": ("role_of(language, word, have)", "fault_of(language, word, have)"),
+    "bonds": ("bond(language, t, u)", "bonds(language)"),
+    "apart": ("alike(one, two)", "apart(one, two)"),
+    "plainread": ("read_plain(language, words)",),
+    "tables": ("root_of(table)", "children(table, i)", "span(table, i)"),
+    "walks": ("way(table, i)", "depth_of(table, i)", "over(table, i, j)"),
+    "judge": ("form_right(language, words, table)", "table_right(language, words, table)"),
+    "saidrows": ("checked_said(language, row)",),
+    "saidreads": ("said(language, words, table)", "said_at(language, words, table, i)"),
+    "forms": ("plus(language, a, b)", "times(language, a, b)", "on_line(language, line, x)",
+              "on_sheet(language, sheet, x, y)", "line_of_line(language, outer, inner)",
+              "sheet_left(language, sheet, x)", "sheet_right(language, sheet, y)",
+              "left_line(language, sheet, line)", "right_line(language, sheet, line)",
+              "line_of_sheet(language, line, sheet)"),
+    "halves": ("empty_half(language)", "word_half(language, word)", "many_of(half)"),
+    "joins": ("joined(language, one, two)",),
+    "closes": ("closed(language, half)",),
+}
+CLASSES = {
+    "errors": ("Refused", "BadLevel", "BadRow", "BadPair", "BadText", "BadWord", "BadPlace", "BadNumber", "BadValue",
+               "BadForm", "BadKept", "BadSaid", "BadLesson", "BadHand", "BadLine", "TooMany", "Unlike", "NoSuch",
+               "NoReading", "NoWorth", "NothingToUndo", "NothingToRedo"),
+    "languages": ("Language",),
+    "halves": ("Half",),
+}
+
+
+class InterfaceTest(unittest.TestCase):
+    def defined(self, file, kind):
+        tree = ast.parse((PACKAGE / (file + ".py")).read_text(encoding="utf-8"))
+        return [node.name for node in tree.body if isinstance(node, kind)]
+
+    def test_functions(self):
+        for file, signatures in FUNCTIONS.items():
+            module = importlib.import_module("anyhalf." + file)
+            for signature in signatures:
+                name = signature.partition("(")[0]
+                self.assertIn(name, self.defined(file, ast.FunctionDef))
+                self.assertEqual(name + str(inspect.signature(getattr(module, name))), signature)
+
+    def test_classes(self):
+        for file, names in CLASSES.items():
+            for name in names:
+                self.assertIn(name, self.defined(file, ast.ClassDef))
