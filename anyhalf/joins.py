@@ -12,6 +12,7 @@ def joined(language, one, two):
     many = one.many + two.many
     if many > WORDS_MOST:
         raise TooMany(many)
+    # Joined to no words a half is as it was; so the depth of its links is that of its words at most.
     if one.many == 0:
         return two
     if two.many == 0:
