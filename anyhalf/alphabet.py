@@ -34,3 +34,8 @@ def is_short_word(word):
 def glue(one, two):
     """Whether two signs that follow each other are of one word."""
     return (one in NAMES and two in NAMES) or (one in MARKS and two in MARKS)
+
+
+def may_glue(sign):
+    """Whether a sign may be of one word with another one."""
+    return sign in NAMES or sign in MARKS

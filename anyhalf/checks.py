@@ -1,7 +1,7 @@
 """Checks of arguments that many functions share ([0.1], [0.2])."""
 
 from anyhalf.alphabet import SIGNS, is_word
-from anyhalf.errors import BadText, BadWord, TooMany
+from anyhalf.errors import BadPlace, BadText, BadWord, TooMany
 
 SIGNS_MOST = 4000
 WORDS_MOST = 4000
@@ -10,6 +10,11 @@ WORDS_MOST = 4000
 def is_number(value):
     """Whether any value is a number; True and False are none."""
     return isinstance(value, int) and not isinstance(value, bool)
+
+
+def is_number_from(value, least, most):
+    """Whether any value is a number that is neither less nor more than these."""
+    return is_number(value) and least <= value <= most
 
 
 def is_tuple_of(value, many):
@@ -21,6 +26,18 @@ def check_many(things, least, most):
     """Refuse a tuple that has fewer or more things than these."""
     if not least <= len(things) <= most:
         raise TooMany(len(things))
+
+
+def check_signs_together(signs):
+    """Refuse more signs than a text may have."""
+    if signs > SIGNS_MOST:
+        raise TooMany(signs)
+
+
+def check_place(place, least, most):
+    """Refuse what is no number of signs from the least to the most."""
+    if not is_number_from(place, least, most):
+        raise BadPlace(place)
 
 
 def check_text(text):

@@ -1,7 +1,7 @@
 """Languages: their levels, rows of words and pairs of brackets ([3])."""
 
 from anyhalf.alphabet import NAMES, is_bracket, is_short_word
-from anyhalf.checks import check_many, is_number, is_tuple_of
+from anyhalf.checks import check_many, is_number_from, is_tuple_of
 from anyhalf.errors import BadLevel, BadPair, BadRow
 
 LEVELS_MOST = 24
@@ -68,7 +68,7 @@ def is_row(row, highest):
     if not is_tuple_of(row, 3):
         return False
     word, role, level = row
-    return is_short_word(word) and role in ROLES and is_number(level) and 1 <= level <= highest
+    return is_short_word(word) and role in ROLES and is_number_from(level, 1, highest)
 
 
 def check_pairs(pairs):

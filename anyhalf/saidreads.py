@@ -1,6 +1,6 @@
 """Said rows of right tables ([9])."""
 
-from anyhalf.checks import check_words
+from anyhalf.checks import check_words, is_number_from
 from anyhalf.errors import NoSuch
 from anyhalf.rolesof import roles_along
 from anyhalf.tables import hanging, root_of
@@ -15,7 +15,7 @@ def said(language, words, table):
 def said_at(language, words, table, i):
     """The said row of what stands at word i."""
     check_words(words)
-    if not 0 <= i < len(words) or roles_along(language, words)[i][0] == "open":
+    if not is_number_from(i, 0, len(words) - 1) or roles_along(language, words)[i][0] == "open":
         raise NoSuch(i)
     return said_from(language, words, table, i)
 

@@ -1,5 +1,6 @@
 """Questions to right tables: the root, what hangs where, stretches ([8])."""
 
+from anyhalf.checks import is_number_from
 from anyhalf.errors import NoSuch
 
 
@@ -23,7 +24,7 @@ def span(table, i):
 
 def check_word_number(table, i):
     """Refuse what is not the number of a word."""
-    if not 0 <= i < len(table):
+    if not is_number_from(i, 0, len(table) - 1):
         raise NoSuch(i)
 
 

@@ -1,6 +1,6 @@
 """The form of tables ([7]): whether words hang as their roles ask for it."""
 
-from anyhalf.checks import is_number
+from anyhalf.checks import is_number_from
 from anyhalf.rolesof import leaves_operand
 from anyhalf.tables import hanging, words_beneath
 
@@ -31,7 +31,7 @@ def is_table(table, many):
     """Whether any value is a tuple of numbers of many words and just one -1."""
     if not isinstance(table, tuple) or len(table) != many:
         return False
-    if not all([is_number(parent) and -1 <= parent < many for parent in table]):
+    if not all([is_number_from(parent, -1, many - 1) for parent in table]):
         return False
     return table.count(-1) == 1
 

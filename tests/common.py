@@ -2,10 +2,15 @@
 
 import unittest
 
-from anyhalf.halves import empty_half, word_half
+from anyhalf.closes import closed
+from anyhalf.halves import empty_half, many_of, word_half
 from anyhalf.joins import joined
 from anyhalf.languages import Language, made_language
+from anyhalf.outlines import decided, outline
+from anyhalf.plainread import read_plain
 from anyhalf.rolesof import fault_of, role_of
+from anyhalf.scrapends import scrap_half
+from anyhalf.scraps import told, words_many
 
 E_LEVELS = ("left", "none", "left", "left", "right")
 E_ROWS = (("not", "ahead", 1), ("<", "between", 2), ("+", "between", 3), ("-", "between", 3), ("*", "between", 4),
@@ -120,5 +125,70 @@ def all_halves(language, words):
     return found
 
 
+def half_told(half):
+    """The outline and the decided links of both sides."""
+    return [(outline(half, have), decided(half, have)) for have in (False, True)]
+
+
+def scrap_told(language, scrap):
+    """All that a scrap tells, with its half."""
+    half = scrap_half(language, scrap)
+    return (told(scrap), words_many(scrap), many_of(half), closed(language, half), half_told(half))
+
+
 def deep_brackets(many, inner=("a",)):
     return ("(",) * many + tuple(inner) + (")",) * many
+
+
+def bent(draw, language, words):
+    """The words with one of them left out, put in, changed, or exchanged with the next one."""
+    words = list(words)
+    stock = ["a", "$$"] + [row[0] for row in language.rows] + [sign for pair in language.pairs for sign in pair]
+    at = draw.randint(0, len(words))
+    way = draw.randrange(4)
+    if way == 0:
+        words[at:at + 1] = []
+    elif way == 1:
+        words[at:at] = [draw.choice(stock)]
+    elif way == 2:
+        words[at:at + 1] = [draw.choice(stock)]
+    else:
+        words[at:at + 2] = words[at:at + 2][::-1]
+    return tuple(words)
+
+
+def drawn_text(draw, language, many):
+    """A text of about so many words, parted by blanks, line feeds or nothing."""
+    words = drawn_words(draw, language, many, 0.1)
+    text = draw.choice(("", " ", "\n", "  "))
+    for word in words:
+        text += word + draw.choice((" ", " ", " ", "", "\n", " \n "))
+    return text
+
+
+def parts_of(draw, text, many):
+    """The text cut at drawn places into so many parts, some of which may be empty."""
+    cuts = sorted(draw.randint(0, len(text)) for _ in range(many - 1))
+    return [text[begin:end] for begin, end in zip([0] + cuts, cuts + [len(text)])]
+
+
+def grown_words(draw, language, many):
+    """About so many words that stand rightly; they may clash, but have no other fault."""
+    words = ["a"]
+    while len(words) < many:
+        at = draw.choice([at for at, word in enumerate(words) if word in ("a", "b", "c")])
+        operand, other = words[at], draw.choice("abc")
+        grown = [[pair[0], operand, pair[1]] for pair in language.pairs]
+        for word, role, _ in language.rows:
+            grown.append({"ahead": [word, operand], "between": [operand, word, other], "behind": [operand, word]}[role])
+        words[at:at + 1] = draw.choice(grown)
+    return tuple(words)
+
+
+def good_words(draw, language, many):
+    """About so many words that are read without a fault."""
+    while True:
+        words = grown_words(draw, language, many)
+        if read_plain(language, words)[0] == "":
+            return words
+        many = max(1, many - 1)

@@ -27,6 +27,14 @@ FUNCTIONS = {
     "halves": ("empty_half(language)", "word_half(language, word)", "many_of(half)"),
     "joins": ("joined(language, one, two)",),
     "closes": ("closed(language, half)",),
+    "outlines": ("outline(half, have)", "decided(half, have)"),
+    "wraps": ("wrapped(language, half)",),
+    "scraps": ("made_scrap(language, text)", "told(scrap)", "words_many(scrap)"),
+    "scrapjoins": ("joined_scraps(language, one, two)",),
+    "scrapends": ("scrap_half(language, scrap)",),
+    "pieces": ("built(language, text)",),
+    "glue": ("glued(language, one, two)",),
+    "parting": ("parted(language, piece, at)", "replaced(language, piece, at, gone, text)"),
 }
 CLASSES = {
     "errors": ("Refused", "BadLevel", "BadRow", "BadPair", "BadText", "BadWord", "BadPlace", "BadNumber", "BadValue",
@@ -34,6 +42,8 @@ CLASSES = {
                "NoReading", "NoWorth", "NothingToUndo", "NothingToRedo"),
     "languages": ("Language",),
     "halves": ("Half",),
+    "scraps": ("Scrap",),
+    "pieces": ("Piece",),
 }
 
 
