@@ -68,10 +68,15 @@ def line_of_sheet(language, line, sheet):
     return (multiplied(size, m, p), multiplied(size, m, q), multiplied(size, m, r), line_at(size, line, s))
 
 
-def size_of(language):
-    """The size of the reckoning of a language."""
+def check_reckoning(language):
+    """Refuse a language without a reckoning."""
     if language.reckoning is None:
         raise NoWorth(0)
+
+
+def size_of(language):
+    """The size of the reckoning of a language."""
+    check_reckoning(language)
     return language.reckoning[0]
 
 

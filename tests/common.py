@@ -5,9 +5,10 @@ import unittest
 from anyhalf.closes import closed
 from anyhalf.halves import empty_half, many_of, word_half
 from anyhalf.joins import joined
-from anyhalf.languages import Language, made_language
+from anyhalf.languages import made_language
 from anyhalf.outlines import decided, outline
 from anyhalf.plainread import read_plain
+from anyhalf.reckon import reckoned
 from anyhalf.rolesof import fault_of, role_of
 from anyhalf.scrapends import scrap_half
 from anyhalf.scraps import told, words_many
@@ -64,20 +65,22 @@ def drawn_words(draw, language, many, slips=0.03):
     return tuple(words)
 
 
-def reckoned(draw, language, size):
+def drawn_number(draw, size):
+    """A number of the reckonings of this size."""
+    if size == 0:
+        return draw.choice((None, 0, draw.randint(-9, 9), draw.randint(-9, 9), draw.randint(-10 ** 6, 10 ** 6)))
+    return draw.choice((0, 1, draw.randrange(size)))
+
+
+def with_reckoning(draw, language, size):
     """The language with a drawn reckoning of this size."""
-    def number():
-        if size == 0:
-            return draw.choice([None, 0] + [draw.randint(-9, 9) for _ in range(5)])
-        return draw.randrange(size)
-
     def numbers(many):
-        return tuple(number() for _ in range(many))
+        return tuple(drawn_number(draw, size) for _ in range(many))
 
-    values = tuple((name, number()) for name in ("a", "b")[:draw.randint(0, 2)])
+    values = tuple((name, *numbers(1)) for name in ("a", "b")[:draw.randint(0, 2)])
     forms = tuple(numbers(4 if row[1] == "between" else 2) for row in language.rows)
     kept = tuple(numbers(2) for _ in language.pairs[1:])
-    return Language(language.levels, language.rows, language.pairs, (size, values, number(), forms, kept))
+    return reckoned(language, size, values, drawn_number(draw, size), forms, kept)
 
 
 def half_in_order(draw, language, words, empties=0):

@@ -2,30 +2,17 @@ import random
 
 from anyhalf import forms
 from anyhalf.errors import NoWorth
-from anyhalf.languages import Language
-from tests.common import E, Case, reckoned
+from anyhalf.languages import made_language
+from anyhalf.reckon import reckoned
+from tests.common import E, Case, with_reckoning
+from tests.treeworths import p, t
 
 SIZES = (0, 2, 3, 10, 97, 10 ** 9)
 
 
 def language_of(size):
     """A language without rows, with the reckoning of this size."""
-    return Language(("left",), (), (("(", ")"),), (size, (), 0, (), ()))
-
-
-def p(size, a, b):
-    """plus, by the words of the document."""
-    if size == 0:
-        known = [n for n in (a, b) if n is not None]
-        return max(known) if known else None
-    return (a + b) % size
-
-
-def t(size, a, b):
-    """times, by the words of the document."""
-    if size == 0:
-        return None if None in (a, b) else a + b
-    return a * b % size
+    return reckoned(made_language(("left",), (), (("(", ")"),)), size, (), 0, (), ())
 
 
 def drawn_numbers(draw, size, many):
@@ -147,5 +134,5 @@ class FormsTest(Case):
         self.assertEqual(forms.line_of_sheet(sheet=sheet, line=(1, 0), language=language), sheet)
 
     def test_language_with_rows(self):
-        language = reckoned(random.Random(10), E, 7)
+        language = with_reckoning(random.Random(10), E, 7)
         self.assertEqual(forms.plus(language, 6, 6), 5)

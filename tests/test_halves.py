@@ -7,7 +7,7 @@ from anyhalf.joins import joined
 from anyhalf.judge import table_right
 from anyhalf.plainread import read_plain
 from tests.common import (FAULTS, E, Case, all_halves, deep_brackets, drawn_language, drawn_words, half_by_middles,
-                          half_from_left, half_from_right, half_in_order, reckoned, split)
+                          half_from_left, half_from_right, half_in_order, split, with_reckoning)
 from tests.test_plainread import BAD, GOOD
 
 WAYS = (half_from_left, half_from_right, half_by_middles)
@@ -85,7 +85,7 @@ class JoinedTest(Case):
         draw = random.Random(14)
         for size in (0, 2, 7, 10 ** 9):
             for _ in range(150):
-                language = reckoned(draw, drawn_language(draw), size)
+                language = with_reckoning(draw, drawn_language(draw), size)
                 words = drawn_words(draw, language, draw.randint(0, 12))
                 self.assertEqual(closed(language, half_in_order(draw, language, words)), read_plain(language, words))
 

@@ -34,6 +34,14 @@ FUNCTIONS = {
     "scrapends": ("scrap_half(language, scrap)",),
     "pieces": ("built(language, text)",),
     "glue": ("glued(language, one, two)",),
+    "pieceasks": ("text_of(piece)", "shape(piece)", "half_of(language, piece)", "reading(language, piece)"),
+    "places": ("place_of(piece, k)", "word_at(piece, sign)"),
+    "stretches": ("stretch(language, piece, a, b)",),
+    "moved": ("moved(language, text, at, gone, put)",),
+    "reckon": ("reckoned(language, size, values, default, forms, kept)",),
+    "plainworth": ("worth_plain(language, words, table)",),
+    "halfworth": ("worth(language, half)",),
+    "slopes": ("slope(language, words, table, i)", "sheet_of(language, words, table, i, j)"),
     "parting": ("parted(language, piece, at)", "replaced(language, piece, at, gone, text)"),
 }
 CLASSES = {

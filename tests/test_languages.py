@@ -1,6 +1,8 @@
+import random
+
 from anyhalf.errors import BadLevel, BadPair, BadRow, TooMany
 from anyhalf.languages import Language, made_language
-from tests.common import E, E_LEVELS, E_PAIRS, E_ROWS, Case
+from tests.common import E, E_LEVELS, E_PAIRS, E_ROWS, Case, with_reckoning
 
 ODD = (None, True, False, 0, 1, "", "a", (), ("a",), ("a", "ahead"), ("a", "ahead", 1, 1), (("a", "ahead", 1),))
 
@@ -111,11 +113,11 @@ class LanguagesTest(Case):
         others = (made_language(E_LEVELS + ("left",), E_ROWS, E_PAIRS), made_language(E_LEVELS, E_ROWS[:7], E_PAIRS),
                   made_language(E_LEVELS, E_ROWS, E_PAIRS[:1]), made_language(E_LEVELS, E_ROWS[::-1], E_PAIRS),
                   made_language(E_LEVELS, E_ROWS, E_PAIRS[::-1]),
-                  Language(E_LEVELS, E_ROWS, E_PAIRS, (2, (), 0, ((0, 0),) * 8, ((0, 0),))))
+                  with_reckoning(random.Random(8), E, 2))
         for other in others:
             self.assertFalse(E == other)
             self.assertTrue(E != other)
-        self.assertTrue(others[5] == Language(E_LEVELS, E_ROWS, E_PAIRS, (2, (), 0, ((0, 0),) * 8, ((0, 0),))))
+        self.assertTrue(others[5] == with_reckoning(random.Random(8), E, 2))
 
     def test_other_things(self):
         for other in (None, 0, True, "", (), (E_LEVELS, E_ROWS, E_PAIRS), (E_LEVELS, E_ROWS, E_PAIRS, None), [E]):

@@ -123,7 +123,9 @@ class RulesTest(unittest.TestCase):
         for name, node in nodes(STATEMENTS + VALUES):
             self.fail((name, node.lineno, node))
         for name, node in nodes((ast.BinOp, ast.AugAssign)):
-            self.assertNotIsInstance(node.op, (ast.Div, ast.MatMult, ast.Pow), (name, node.lineno))
+            self.assertNotIsInstance(node.op, (ast.Div, ast.MatMult), (name, node.lineno))
+            if isinstance(node.op, ast.Pow):
+                self.assertIsInstance(node.right, ast.Constant, (name, node.lineno))
         for name, node in nodes(ast.Constant):
             self.assertNotIsInstance(node.value, (float, complex, bytes), (name, node.lineno))
             if isinstance(node.value, str):
