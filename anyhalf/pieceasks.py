@@ -28,9 +28,7 @@ def reading(language, piece):
 
 
 def nodes_of(piece):
-    """All nodes of a piece, a pair before its parts, left before right."""
+    """All nodes of a piece, a pair before its parts, left before right; a leaf has None for both."""
     if piece is None:
         return []
-    if piece.high == 0:
-        return [piece]
     return [piece] + nodes_of(piece.left) + nodes_of(piece.right)

@@ -145,6 +145,19 @@ class GluedTest(Case):
         self.refused(TooMany, 4001, glued, E, one, two)
         self.refused(TooMany, 4001, glued, E, two, one)
 
+    def test_too_many_of_both_and_not_of_a_part(self):
+        # The higher one's right part and the other one are more than 4000 signs, too.
+        leaf = built(E, "(")[0]
+        one = leaf
+        while one.signs < 2000:
+            one = glued(E, one, one if one.signs <= 1000 else leaf)[0]
+        one = glued(E, one, one)[0]
+        two = built(E, "a" * 2048)[0]
+        self.assertGreater(one.high, two.high + 1)
+        self.assertGreater(min(one.left.signs, one.right.signs) + 2048, 4000)
+        self.refused(TooMany, one.signs + 2048, glued, E, one, two)
+        self.refused(TooMany, one.signs + 2048, glued, E, two, one)
+
     def test_by_name(self):
         one, two = built(E, "a")[0], built(E, "b")[0]
         self.assertEqual(model_of(glued(two=two, one=one, language=E)[0]), ("a", "b"))

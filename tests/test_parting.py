@@ -155,6 +155,7 @@ class ReplacedTest(Case):
         self.refused(BadText, 2, replaced, E, piece, 4, 1, "cdE")
         self.refused(TooMany, 4001, replaced, E, piece, 4, 1, "a" * 4001)
         self.refused(TooMany, 4001, replaced, E, piece, 0, 8, "a" * 4000)
+        self.refused(TooMany, 4008, replaced, E, piece, 4, 1, "a" * 4000)
         self.assertEqual(replaced(E, piece, 0, 9, "a" * 4000)[0].signs, 4000)
         self.assertEqual(replaced(E, piece, 3, 8 - 3, "a" * 3996)[0].signs, 4000)
 
@@ -163,6 +164,7 @@ class ReplacedTest(Case):
         self.refused(BadPlace, 10, replaced, E, piece, 10, 11, "A" * 4001)
         self.refused(BadPlace, -1, replaced, E, piece, -1, -2, "A")
         self.refused(BadPlace, 11, replaced, E, piece, 9, 11, "A" * 4001)
+        self.refused(BadPlace, -1, replaced, E, piece, 9, -1, "A")
         self.refused(TooMany, 4002, replaced, E, piece, 9, 0, "A" * 4002)
         self.refused(BadText, 3999, replaced, E, piece, 9, 0, "a" * 3999 + "A")
         self.refused(TooMany, 4008, replaced, E, piece, 9, 0, "a" * 3999)

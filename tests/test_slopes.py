@@ -107,6 +107,8 @@ class SlopesTest(Case):
             self.refused(NoSuch, i, sheet_of, R, words, table, 2, i)
             self.refused(NoSuch, i, sheet_of, R, words, table, i, 99)
         self.refused(NoSuch, 0, slope, R, (), (), 0)
+        self.refused(NoSuch, -1, slope, R, split("a + b"), (1, -1, 1), -1)
+        self.refused(NoSuch, -1, sheet_of, R, split("a + b"), (1, -1, 1), 0, -1)
         for i in (2, 4):
             slope(R, words, table, i)
             self.refused(NoSuch, i, sheet_of, R, words, table, i, i)
