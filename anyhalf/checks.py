@@ -43,9 +43,15 @@ def check_place(place, least, most):
 def check_text(text):
     """Refuse what is marked "(text)": a text too long, or with a sign that is none."""
     check_many(text, 0, SIGNS_MOST)
+    bad = first_bad_sign(text)
+    if bad >= 0:
+        raise BadText(bad)
+
+
+def first_bad_sign(text):
+    """The index of the first sign of a text that is none of the package, -1 if there is none."""
     rest = text.lstrip(SIGNS)
-    if rest != "":
-        raise BadText(len(text) - len(rest))
+    return -1 if rest == "" else len(text) - len(rest)
 
 
 def check_words(words):

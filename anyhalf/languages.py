@@ -53,14 +53,16 @@ def check_levels(levels):
 def check_rows(rows, highest):
     """Refuse rows without their form, and a second row of a word in a role that it has."""
     check_many(rows, 0, ROWS_MOST)
-    stood = {}
     for at, row in enumerate(rows):
-        if not is_row(row, highest):
+        if not row_fits(row, highest, rows[:at]):
             raise BadRow(at)
-        place = (row[0], row[1] == "ahead")
-        if place in stood:
-            raise BadRow(at)
-        stood[place] = True
+
+
+def row_fits(row, highest, earlier):
+    """Whether any value can be a row of a language with so many levels, behind these earlier rows."""
+    if not is_row(row, highest):
+        return False
+    return (row[0], row[1] == "ahead") not in [(other[0], other[1] == "ahead") for other in earlier]
 
 
 def is_row(row, highest):
@@ -74,14 +76,17 @@ def is_row(row, highest):
 def check_pairs(pairs):
     """Refuse pairs without their form, and a bracket sign that comes again."""
     check_many(pairs, 1, PAIRS_MOST)
-    stood = {}
     for at, pair in enumerate(pairs):
-        if not is_tuple_of(pair, 2):
+        if not pair_fits(pair, pairs[:at]):
             raise BadPair(at)
-        for sign in pair:
-            if not is_bracket(sign) or sign in stood:
-                raise BadPair(at)
-            stood[sign] = True
+
+
+def pair_fits(pair, earlier):
+    """Whether any value can be a pair of a language, behind these earlier pairs."""
+    if not is_tuple_of(pair, 2) or not is_bracket(pair[0]) or not is_bracket(pair[1]):
+        return False
+    stood = [sign for other in earlier for sign in other]
+    return pair[0] != pair[1] and pair[0] not in stood and pair[1] not in stood
 
 
 def level_of(language, row):

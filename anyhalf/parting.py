@@ -25,14 +25,18 @@ def parted(language, piece, at):
 
 def replaced(language, piece, at, gone, text):
     """The piece in which the gone signs from sign at on give way to the text, and how many nodes were made."""
-    signs = signs_of(piece)
-    check_place(at, 0, signs)
-    check_place(gone, 0, signs - at)
-    check_text(text)
-    check_signs_together(signs - gone + len(text))
+    check_edit(piece, at, gone, text)
+    check_signs_together(signs_of(piece) - gone + len(text))
     ahead, rest, made_first = parted(language, piece, at)
     _, behind, made_second = parted(language, rest, gone)
     new, made_new = built(language, text)
     front, made_front = glued(language, ahead, new)
     whole, made_whole = glued(language, front, behind)
     return (whole, made_first + made_second + made_new + made_front + made_whole)
+
+
+def check_edit(piece, at, gone, text):
+    """Refuse what cannot be replaced in a piece, but for the length of what comes of it."""
+    check_place(at, 0, signs_of(piece))
+    check_place(gone, 0, signs_of(piece) - at)
+    check_text(text)

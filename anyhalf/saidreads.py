@@ -23,17 +23,29 @@ def said_at(language, words, table, i):
 def said_from(language, words, table, top):
     """The said row of the word at the top and all beneath it."""
     roles = roles_along(language, words)
+    return tuple([said_pair(language, roles[at], words[at]) for at in said_words(roles, table, top)])
+
+
+def said_words(roles, table, top):
+    """The words at and beneath the top that stand for the pairs of its said row, in the order of that row.
+
+    A word of a plain pair, which has none, is left out.
+    """
     lists = hanging(table)
-    row = []
+    found = []
     waiting = [top]
     while waiting:
         at = waiting.pop()
-        kind, number = roles[at]
-        if kind == "close":
-            if number > 0:
-                row.append(("kept", language.pairs[number][0]))
-            waiting.append(lists[at][-1])
-        else:
-            row.append((kind, words[at]))
-            waiting.extend(lists[at][::-1])
-    return tuple(row)
+        if roles[at] != ("close", 0):
+            found.append(at)
+        below = lists[at][-1:] if roles[at][0] == "close" else lists[at]
+        waiting.extend(below[::-1])
+    return found
+
+
+def said_pair(language, role, word):
+    """The pair (kind, word) of a word in its role; a closing word stands for its kept pair."""
+    kind, number = role
+    if kind == "close":
+        return ("kept", language.pairs[number][0])
+    return (kind, word)

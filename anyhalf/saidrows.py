@@ -10,14 +10,20 @@ PAIRS_MOST = 400
 def checked_said(language, row):
     """The row, if it is a said row of the language."""
     check_many(row, 0, PAIRS_MOST)
+    bad = first_bad_pair(language, row)
+    if bad >= 0:
+        raise BadSaid(bad)
+    return row
+
+
+def first_bad_pair(language, row):
+    """The index of the first pair that cannot stand there, how many there are if more is wanted, else -1."""
     wanted = 1
     for at, pair in enumerate(row):
         if wanted == 0 or not is_said_pair(language, pair):
-            raise BadSaid(at)
+            return at
         wanted += trees_beneath(pair[0]) - 1
-    if wanted > 0:
-        raise BadSaid(len(row))
-    return row
+    return len(row) if wanted > 0 else -1
 
 
 def trees_beneath(kind):

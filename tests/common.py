@@ -195,3 +195,16 @@ def good_words(draw, language, many):
         if read_plain(language, words)[0] == "":
             return words
         many = max(1, many - 1)
+
+
+def drawn_row(draw, language, most):
+    """A said row with about so many pairs."""
+    inner = [("operand", "a"), ("operand", "b7")]
+    nodes = [(row[1], row[0]) for row in language.rows] + [("kept", pair[0]) for pair in language.pairs[1:]]
+    row = []
+    wanted = 1
+    while wanted:
+        ends = not nodes or len(row) + wanted >= most or draw.random() < 0.3
+        row.append(draw.choice(inner if ends else nodes))
+        wanted += {"operand": -1, "between": 1}.get(row[-1][0], 0)
+    return tuple(row)

@@ -42,6 +42,23 @@ FUNCTIONS = {
     "plainworth": ("worth_plain(language, words, table)",),
     "halfworth": ("worth(language, half)",),
     "slopes": ("slope(language, words, table, i)", "sheet_of(language, words, table, i, j)"),
+    "least": ("brackets_least(language, row)",),
+    "printed": ("printed(language, row)", "full_words(language, row)"),
+    "closetext": ("close_text(words)",),
+    "needless": ("needless(language, words)", "slimmed(language, words)"),
+    "grafts": ("grafted(language, words, i, row)",),
+    "demands": ("made_roles(rows, pairs)", "demands(rows, pairs, lesson)"),
+    "lessons": ("taught(rows, pairs, lessons)",),
+    "rings": ("ring_right(rows, pairs, lessons, paper)",),
+    "bookasks": ("fault(book)", "table(book)", "said_of(book)", "least_of(book)", "worth_of(book)", "missing(book)",
+                 "stretch_of(book, a, b)", "place(book, k)", "word_at_of(book, sign)", "cut(book, at)",
+                 "put_together(one, two)"),
+    "handasks": ("reading_of(hands)", "fault_of_hands(hands)", "readable(hands)"),
+    "languagetext": ("language_text(language)", "language_of(text)"),
+    "saidtext": ("said_text(language, row)", "said_of_text(language, text)"),
+    "tabletext": ("table_text(table)", "table_of(text)"),
+    "papertext": ("paper_text(paper)", "paper_of(text)"),
+    "desk": ("answer(book, row)",),
     "parting": ("parted(language, piece, at)", "replaced(language, piece, at, gone, text)"),
 }
 CLASSES = {
@@ -52,6 +69,15 @@ CLASSES = {
     "halves": ("Half",),
     "scraps": ("Scrap",),
     "pieces": ("Piece",),
+    "book": ("Book",),
+    "hands": ("Hands",),
+}
+METHODS = {
+    ("book", "Book"): ("__init__(self, language, text)", "put(self, at, gone, text)", "undo(self)", "redo(self)",
+                       "text(self)", "reading(self)", "made(self)", "high(self)", "shape(self)"),
+    ("hands", "Hands"): ("__init__(self, language, texts)", "put(self, hand, at, gone, text)", "undo(self, hand)",
+                         "redo(self, hand)", "hand_on(self, hand, many)", "text_of(self, hand)", "half(self, hand)",
+                         "whole(self)"),
 }
 
 
@@ -72,3 +98,15 @@ class InterfaceTest(unittest.TestCase):
         for file, names in CLASSES.items():
             for name in names:
                 self.assertIn(name, self.defined(file, ast.ClassDef))
+
+    def test_methods_stand_in_the_class_itself(self):
+        for (file, name), signatures in METHODS.items():
+            found = getattr(importlib.import_module("anyhalf." + file), name)
+            for signature in signatures:
+                method = signature.partition("(")[0]
+                self.assertIn(method, vars(found))
+                self.assertEqual(method + str(inspect.signature(vars(found)[method])), signature)
+
+    def test_all_files_of_the_interface(self):
+        files = set(FUNCTIONS) | set(CLASSES)
+        self.assertEqual(len(files), 49)

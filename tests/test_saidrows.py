@@ -3,7 +3,7 @@ import random
 from anyhalf.errors import BadSaid, TooMany
 from anyhalf.languages import made_language
 from anyhalf.saidrows import checked_said
-from tests.common import E, Case, drawn_language
+from tests.common import E, Case, drawn_language, drawn_row
 
 ROW = (("between", "+"), ("between", "*"), ("operand", "a"), ("ahead", "not"), ("operand", "b"), ("operand", "c"))
 ODD = (None, True, False, 0, 1, "", "operand", (), ("operand",), ("operand", "a", "a"), (("operand", "a"),),
@@ -14,19 +14,6 @@ ODD = (None, True, False, 0, 1, "", "operand", (), ("operand",), ("operand", "a"
        ("ahead", "no"), ("between", "not"), ("between", "!"), ("between", "++"), ("behind", "+"), ("behind", "-"),
        ("behind", "not"), ("kept", "("), ("kept", "]"), ("kept", ")"), ("kept", "{"), ("kept", ""), ("kept", None),
        ("kept", "[["), ((("operand", "a"), "a"), "a"))
-
-
-def drawn_row(draw, language, most):
-    """A said row with about so many pairs."""
-    inner = [("operand", "a"), ("operand", "b7")]
-    nodes = [(row[1], row[0]) for row in language.rows] + [("kept", pair[0]) for pair in language.pairs[1:]]
-    row = []
-    wanted = 1
-    while wanted:
-        ends = not nodes or len(row) + wanted >= most or draw.random() < 0.3
-        row.append(draw.choice(inner if ends else nodes))
-        wanted += {"operand": -1, "between": 1}.get(row[-1][0], 0)
-    return tuple(row)
 
 
 class SaidRowsTest(Case):
