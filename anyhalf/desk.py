@@ -48,6 +48,11 @@ def said_line(book):
     return said_text(book.language, said_of(book))
 
 
+def least_line(book):
+    """The answer to "least"."""
+    return least_of(book)
+
+
 def missing_line(book):
     """The answer to "missing"."""
     ahead, behind = missing(book)
@@ -90,7 +95,7 @@ WHOLE_ROWS = {
     "read": read_line,
     "table": table_line,
     "said": said_line,
-    "least": least_of,
+    "least": least_line,
     "missing": missing_line,
     "worth": worth_line,
     "shape": shape_line,
