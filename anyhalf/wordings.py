@@ -1,6 +1,6 @@
 """The fewest plain pairs of a tree, node by node ([27] to [29])."""
 
-from anyhalf.contexts import ALONE, NO_ROW, contexts_below, may_be_bare
+from anyhalf.contexts import ALONE, contexts_below, may_be_bare
 
 
 class Wordings:
@@ -20,10 +20,6 @@ class Wordings:
         for at in reversed(range(len(tree.row))):
             for context in list(self.costs[at]):
                 self.costs[at][context] = self.cost(at, context)
-
-    def has_row(self, at):
-        """Whether a node may stand in a plain pair."""
-        return self.tree.numbers[at] != NO_ROW
 
     def can_be_bare(self, at, context):
         """Whether a node may be bare in this context."""
@@ -52,12 +48,11 @@ class Wordings:
         return 1 + self.beneath(at, ALONE)
 
     def is_bare(self, at, context):
-        """Whether a node is left bare: it may be, and costs no more than in its pair."""
-        if not self.has_row(at):
-            return True
-        if not self.can_be_bare(at, context):
-            return False
-        return self.beneath(at, context) <= 1 + self.beneath(at, ALONE)
+        """Whether a node is left bare: it may be, and costs no more than in its pair.
+
+        So operands and kept nodes are: what is beneath them has the same contexts anywhere.
+        """
+        return self.can_be_bare(at, context) and self.beneath(at, context) <= 1 + self.beneath(at, ALONE)
 
     def paired(self):
         """For each node whether it stands in a plain pair in the wording that is printed."""

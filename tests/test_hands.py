@@ -248,6 +248,27 @@ class HandsTest(Case):
         hands.redo(1)
         self.check(E, hands, ("a" * 1900, "c" * 99 + "b" * 2000))
 
+    def test_the_put_in_turn_tells_the_length(self):
+        hands = Hands(E, ("a" * 10, ""))
+        hands.put(0, 0, 10, "")
+        hands.put(0, 0, 0, "b" * 30)
+        hands.put(0, 0, 30, "c")
+        hands.put(1, 0, 0, " " * 3980)
+        self.refused(TooMany, 4010, hands.undo, 0)
+        self.check(E, hands, ("c", " " * 3980))
+        hands.undo(1)
+        for _ in range(3):
+            hands.undo(0)
+        self.check(E, hands, ("a" * 10, ""))
+        hands.put(1, 0, 0, " " * 3985)
+        hands.redo(0)
+        self.refused(TooMany, 4015, hands.redo, 0)
+        self.check(E, hands, ("", " " * 3985))
+        hands.undo(1)
+        hands.redo(0)
+        hands.redo(0)
+        self.check(E, hands, ("c", ""))
+
     def test_a_put_refused_for_its_length_keeps_what_can_be_redone(self):
         hands = Hands(E, ("a", "b" * 3998))
         hands.put(0, 0, 0, "1")

@@ -87,6 +87,21 @@ class NeedlessTest(Case):
         self.found("a + ( b ^ c * a )", (8,))
         self.found("[ not ( a < b ) ] < c", (6,))
 
+    def test_weak_words_behind_and_ahead(self):
+        # The sum of a weak word behind must not lose it to what stands ahead of the pair, and the other way about.
+        language = made_language(("left",) * 4, (("!", "behind", 1), ("not", "ahead", 1), ("+", "between", 2),
+                                                 ("*", "between", 3)), (("(", ")"),))
+        self.found("a + ( b ! * c )", (), language)
+        self.found("( b ! * c ) + a", (5,), language)
+        self.found("a + ( b * c ! )", (), language)
+        self.found("( b * not c ) + a", (), language)
+        self.found("a + ( b * not c )", (7,), language)
+        self.found("( not b * c ) + a", (), language)
+        self.found("a + ( not b * c )", (7,), language)
+        self.found("a + ( b ! * not c ) + a", (), language)
+        self.found("a + ( b ! ! * c * a )", (), language)
+        self.found("( a * b * - not c ) + a", ())
+
     def test_drawn_words(self):
         draw = random.Random(231)
         seen = [0, 0]
