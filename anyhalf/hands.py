@@ -1,7 +1,6 @@
 """Several hands at one text, each with a text of its own ([38])."""
 
-from anyhalf.checks import (SIGNS_MOST, check_many, check_place, check_signs_together, first_bad_sign,
-                            is_number_from)
+from anyhalf.checks import SIGNS_MOST, check_many, check_place, check_signs_together, first_bad_sign, is_number_from
 from anyhalf.errors import BadHand, BadText, NothingToRedo, NothingToUndo
 from anyhalf.glue import glued
 from anyhalf.history import History

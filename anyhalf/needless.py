@@ -33,8 +33,8 @@ class Nodes:
         self.contexts = [ALONE] * len(table)
         for at in words_beneath(self.lists, root_of(table)):
             kind, row = roles[at]
-            contexts = [ALONE, ALONE] if kind == "close" else contexts_below(kind, row, self.contexts[at])
-            for child, context in zip(self.lists[at], contexts):
+            inner = [ALONE, ALONE] if kind == "close" else contexts_below(kind, row, self.contexts[at])
+            for child, context in zip(self.lists[at], inner):
                 self.contexts[child] = context
 
     def can_go(self, at):
